@@ -1,4 +1,7 @@
-"""Programs, and ways to make programs, that several tests use."""
+"""Programs, ways to make programs, and values of odd kinds, that several tests use."""
+
+from lettermoat.programs import is_program
+from lettermoat.texts import program_of
 
 WAY = ("row", 2, False)
 WIDE = ("row", None, True)
@@ -8,6 +11,41 @@ def tuples_all_down(value):
     if isinstance(value, tuple):
         return all(tuples_all_down(part) for part in value)
     return value is None or isinstance(value, (bool, int, str))
+
+
+class Awkward:
+    """Fails at whatever it is asked."""
+
+    def fail(self, *others):
+        raise RuntimeError("asked")
+
+    __eq__ = __ne__ = __lt__ = __gt__ = __le__ = __ge__ = __len__ = __iter__ = __bool__ = fail
+    __getitem__ = __contains__ = __hash__ = __int__ = __index__ = __str__ = __repr__ = fail
+
+
+def nest(depth):
+    value = ()
+    for k in range(depth):
+        value = (value,)
+    return value
+
+
+def odd_values():
+    """Values that are no world, no claim and no part of either."""
+    return [
+        None, True, False, -1, 13, 10 ** 400, 1.0, float("nan"), "", "A", "abcdefghi", "a b", "\u00e9", b"a", [], {},
+        set(), frozenset(), object, object(), Ellipsis, range(1), iter(()), lambda: None, (None,), ((), (), (), ()),
+        nest(5000), Awkward(),
+    ]
+
+
+def spoilings(value, odd):
+    """The value with one of its parts, however deep, put in the place of which the odd one stands."""
+    yield odd
+    if isinstance(value, tuple):
+        for place, part in enumerate(value):
+            for spoilt in spoilings(part, odd):
+                yield value[:place] + (spoilt,) + value[place + 1:]
 
 
 def with_steps(*steps, roads=(WAY,), many=2, others=()):
@@ -55,3 +93,60 @@ send 1 yes 2
 hand asker
 hand helper
 hand asker"""
+
+
+# An asker waits for an answer on a heap that may lose it; the helper picks what it answers.
+TALK = program_of("""road row 1
+road heap 2 loses
+role asker 1
+send 0 ask 1
+wait 1 no:.:0 yes:0:3
+stop
+role helper 1
+wait 0 ask:0:1
+pick 2 4
+tell 1 yes 0
+if 0 1 0
+send 1 no 2
+hand asker
+hand helper""")
+
+
+def random_step(rng, roads, many, count, names):
+    words = ["if", "set", "add"] * (many > 0) + ["send", "wait", "wait"] * (roads > 0) + ["pick", "begin", "stop"]
+    words += ["send", "tell"] * (roads > 0 and many > 0)
+    word = rng.choice(words)
+    r = rng.randrange(max(many, 1))
+    road = rng.randrange(max(roads, 1))
+    n = rng.randrange(3)
+    if word == "if":
+        return (word, r, n, rng.randrange(count + 1))
+    if word in ("set", "add"):
+        return (word, r, n)
+    if word == "send":
+        return (word, road, rng.choice("ab"), rng.randrange(2))
+    if word == "tell":
+        return (word, road, rng.choice("ab"), r)
+    if word == "wait":
+        kinds = sorted(rng.sample("abc", rng.randint(1, 3)))
+        places = [None] + list(range(many))
+        return (word, road) + tuple((kind, rng.choice(places), rng.randrange(count + 1)) for kind in kinds)
+    if word == "pick":
+        return (word,) + tuple(sorted(rng.sample(range(count + 1), rng.randint(1, min(3, count + 1)))))
+    return (word, rng.choice(names)) if word == "begin" else (word,)
+
+
+def random_program(rng, wide=False, most_steps=5):
+    roads = [(rng.choice(["row", "heap"]), rng.randint(1, 2), rng.random() < 0.3) for k in range(rng.randint(0, 2))]
+    if wide:
+        roads.insert(rng.randint(0, len(roads)), ("row", None, True))
+    names = rng.sample(["p", "q", "r"], rng.randint(1, 2))
+    roles = []
+    for name in names:
+        many = rng.randint(0, 2)
+        count = rng.randint(1, most_steps)
+        steps = tuple(random_step(rng, len(roads), many, count, names) for k in range(count))
+        roles.append((name, many, steps))
+    program = (tuple(roads), tuple(roles), tuple(rng.choice(names) for k in range(rng.randint(1, 3))))
+    assert is_program(program), program
+    return program

@@ -6,7 +6,7 @@ import unittest
 from lettermoat.errors import LetterError
 from lettermoat.programs import is_program, is_wide, role_of, sent_on
 
-from tests.samples import WAY, WIDE, asker, tuples_all_down, with_steps
+from tests.samples import WAY, WIDE, Awkward, asker, nest, tuples_all_down, with_steps
 
 STOP = ("stop",)
 TWELVE = (
@@ -26,16 +26,6 @@ def with_roads(*roads):
 
 def with_roles(*roles, hands=("main",)):
     return ((), roles, hands)
-
-
-class Awkward:
-    """Fails at whatever it is asked."""
-
-    def fail(self, *others):
-        raise RuntimeError("asked")
-
-    __eq__ = __ne__ = __lt__ = __gt__ = __le__ = __ge__ = __len__ = __iter__ = __bool__ = fail
-    __getitem__ = __contains__ = __hash__ = __int__ = __index__ = __str__ = __repr__ = fail
 
 
 class Told(unittest.TestCase):
@@ -80,14 +70,12 @@ class IsProgramTrue(Told):
 class IsProgramFalse(Told):
 
     def test_values_of_other_kinds(self):
-        nest = ()
-        for k in range(5000):
-            nest = (nest,)
+        deep = nest(5000)
         self.told(False, [
             None, True, False, 0, 1, -7, 1.5, float("nan"), "", "program", b"row", [], {}, set(), frozenset(),
             object, object(), (), ((),), ((), (), ()), (((),), ((),), ((),)), (None, None, None), (1, 2, 3),
-            ("", "", ""), ("a", "b", "c"), ((), ((((),),),), ()), range(3), lambda: None, Ellipsis, 10 ** 400, nest,
-            (nest, nest, nest), (iter(()), iter(()), iter(())),
+            ("", "", ""), ("a", "b", "c"), ((), ((((),),),), ()), range(3), lambda: None, Ellipsis, 10 ** 400, deep,
+            (deep, deep, deep), (iter(()), iter(()), iter(())),
         ])
 
     def test_awkward_values_in_each_place(self):
