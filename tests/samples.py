@@ -1,6 +1,11 @@
 """Programs, ways to make programs, and values of odd kinds, that several tests use."""
 
-from lettermoat.programs import is_program
+import itertools
+import random
+
+from lettermoat.errors import TooMany
+from lettermoat.graphs import all_worlds
+from lettermoat.programs import is_program, sent_on
 from lettermoat.texts import program_of
 
 WAY = ("row", 2, False)
@@ -150,3 +155,117 @@ def random_program(rng, wide=False, most_steps=5):
     program = (tuple(roads), tuple(roles), tuple(rng.choice(names) for k in range(rng.randint(1, 3))))
     assert is_program(program), program
     return program
+
+
+def small_programs(seed, count, most):
+    """So many random programs with all their worlds, of which there are no more than told."""
+    rng = random.Random(seed)
+    found = []
+    while len(found) < count:
+        program = random_program(rng, most_steps=4)
+        try:
+            found.append((program, all_worlds(program, most)))
+        except TooMany:
+            pass
+    return found
+
+
+def random_plain(rng, program):
+    role = rng.choice(program[1])
+    words = ["at"] + ["has"] * (role[1] > 0) + ["on"] * (len(program[0]) > 0)
+    word = rng.choice(words)
+    if word == "at":
+        return (word, role[0], rng.randint(0, len(role[2])), rng.randint(1, 2))
+    if word == "has":
+        return (word, role[0], rng.randrange(role[1]), rng.randrange(3), rng.randint(1, 2))
+    return (word, rng.randrange(len(program[0])), rng.choice("abc"), rng.randint(1, 2))
+
+
+def random_claim(rng, program, deep=4):
+    word = rng.choice(["plain", "and", "or", "not"]) if deep > 1 else "plain"
+    if word == "plain":
+        return random_plain(rng, program)
+    count = 1 if word == "not" else rng.randint(1, 3)
+    return (word,) + tuple(random_claim(rng, program, deep - 1) for k in range(count))
+
+
+# The sender goes on to the other letter when the answer to the one before has come; both ways may lose letters.
+BITS = program_of("""road row wide loses
+road row wide loses
+role snd 0
+send 0 x 0
+wait 1 a:.:2 b:.:0
+send 0 y 0
+wait 1 a:.:2 b:.:0
+role rcv 0
+wait 0 x:.:1 y:.:4
+send 1 a 0
+wait 0 x:.:1 y:.:3
+send 1 b 0
+wait 0 x:.:1 y:.:4
+hand snd
+hand rcv""")
+
+
+def random_talk_step(rng, roads, many, count):
+    word = rng.choice(["send", "send", "wait", "wait", "wait", "pick"] + ["tell", "set", "add", "if"] * many)
+    road = rng.randrange(roads)
+    if word == "send":
+        return (word, road, rng.choice("ab"), rng.randrange(2))
+    if word == "tell":
+        return (word, road, rng.choice("ab"), 0)
+    if word == "wait":
+        kinds = sorted(rng.sample("ab", rng.randint(1, 2)))
+        places = [None] + list(range(many))
+        return (word, road) + tuple((kind, rng.choice(places), rng.randrange(count + 1)) for kind in kinds)
+    if word == "pick":
+        return (word,) + tuple(sorted(rng.sample(range(count + 1), rng.randint(1, 2))))
+    return (word, 0, rng.randrange(3)) + ((rng.randrange(count + 1),) if word == "if" else ())
+
+
+def random_talk(rng, wides):
+    """A program with so many wide roads, most of whose steps send or wait."""
+    roads = [WIDE] * wides + [("heap", 1, True), ("row", 1, False)][:rng.choice([0, 0, 1, 2])]
+    rng.shuffle(roads)
+    names = ["p", "q"][:rng.randint(1, 2)]
+    roles = []
+    for name in names:
+        many = rng.randint(0, 1)
+        count = rng.randint(2, 5)
+        roles.append((name, many, tuple(random_talk_step(rng, len(roads), many, count) for k in range(count))))
+    program = (tuple(roads), tuple(roles), tuple(rng.choice(names) for k in range(rng.randint(1, 2))))
+    assert is_program(program), program
+    return program
+
+
+def random_growing_claim(rng, program):
+    def on():
+        return ("on", rng.randrange(len(program[0])), rng.choice("ab"), rng.randint(1, 2))
+
+    def at():
+        role = rng.choice(program[1])
+        return ("at", role[0], rng.randint(1, len(role[2])), 1)
+
+    return rng.choice([
+        at(), on(), ("and", at(), at()), ("and", at(), on()), ("and", on(), on()), ("or", on(), ("and", at(), on())),
+        ("and", at(), on(), on()), ("and", ("not", at()), on()), ("or", at(), ("and", on(), on())),
+    ])
+
+
+def wide_places(program):
+    return [road for road, told in enumerate(program[0]) if told[1] is None]
+
+
+def with_words(program, floor, words):
+    loads = list(floor[1])
+    for road, word in zip(wide_places(program), words):
+        loads[road] = word
+    return (floor[0], tuple(loads))
+
+
+def all_words(program, longest):
+    rows = [
+        [word for size in range(longest + 1) for word in itertools.product(sent_on(program, road), repeat=size)]
+        for road in wide_places(program)
+    ]
+    return list(itertools.product(*rows))

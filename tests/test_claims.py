@@ -8,7 +8,7 @@ from lettermoat.claims import claim_of, claim_text, grows, holds, is_claim
 from lettermoat.errors import NoClaim, NoText
 from lettermoat.worlds import moved, moves, start_world
 
-from tests.samples import TALK, nest, odd_values, random_program, spoilings, tuples_all_down, with_steps
+from tests.samples import TALK, nest, odd_values, random_claim, random_program, spoilings, tuples_all_down, with_steps
 
 AT = ("at", "asker", 1, 1)
 HAS = ("has", "helper", 0, 2, 1)
@@ -19,25 +19,6 @@ def deep_not(claim, times):
     for k in range(times):
         claim = ("not", claim)
     return claim
-
-
-def random_plain(rng, program):
-    role = rng.choice(program[1])
-    words = ["at"] + ["has"] * (role[1] > 0) + ["on"] * (len(program[0]) > 0)
-    word = rng.choice(words)
-    if word == "at":
-        return (word, role[0], rng.randint(0, len(role[2])), rng.randint(1, 2))
-    if word == "has":
-        return (word, role[0], rng.randrange(role[1]), rng.randrange(3), rng.randint(1, 2))
-    return (word, rng.randrange(len(program[0])), rng.choice("abc"), rng.randint(1, 2))
-
-
-def random_claim(rng, program, deep=4):
-    word = rng.choice(["plain", "and", "or", "not"]) if deep > 1 else "plain"
-    if word == "plain":
-        return random_plain(rng, program)
-    count = 1 if word == "not" else rng.randint(1, 3)
-    return (word,) + tuple(random_claim(rng, program, deep - 1) for k in range(count))
 
 
 class IsClaim(unittest.TestCase):

@@ -1,7 +1,6 @@
 """[7.1], and what [7.2] says of the ways to worlds: all worlds, ways of fewest moves, and what lies ahead."""
 
 import copy
-import random
 import unittest
 
 from lettermoat.errors import NoWorlds, TooMany
@@ -9,7 +8,7 @@ from lettermoat.graphs import ahead, all_worlds, way_to
 from lettermoat.runs import end_of
 from lettermoat.worlds import is_world, moved, moves, start_world
 
-from tests.samples import TALK, WIDE, random_program, tuples_all_down, with_steps
+from tests.samples import TALK, WIDE, small_programs, tuples_all_down, with_steps
 
 PICKS = with_steps(("pick", 1, 2), ("set", 0, 1), ("add", 1, 2), ("pick", 0, 1, 4))
 
@@ -24,18 +23,6 @@ def ways_by_length(program, length):
                 longer.append((places + (place,), run + (move,), moved(program, world, move)))
         rows = longer
     return rows
-
-
-def small_programs(seed, count, most):
-    rng = random.Random(seed)
-    found = []
-    while len(found) < count:
-        program = random_program(rng, most_steps=4)
-        try:
-            found.append((program, all_worlds(program, most)))
-        except TooMany:
-            pass
-    return found
 
 
 class Ahead(unittest.TestCase):
