@@ -46,14 +46,21 @@ def is_built(value, deep, is_plain_one):
     return all([is_built(part, deep - 1, is_plain_one) for part in value[1:]])
 
 
-def ons_in(claim):
+def plains_of(claim):
     if claim[0] in PLAIN_PARTS:
-        return 1 if claim[0] == "on" else 0
-    return sum([ons_in(part) for part in claim[1:]])
+        return [claim]
+    found = []
+    for part in claim[1:]:
+        found.extend(plains_of(part))
+    return found
+
+
+def ons_of(claim):
+    return [plain for plain in plains_of(claim) if plain[0] == "on"]
 
 
 def is_claim_of(value, is_plain_one):
-    return is_built(value, MOST_DEEP, is_plain_one) and ons_in(value) <= MOST_ONS
+    return is_built(value, MOST_DEEP, is_plain_one) and len(ons_of(value)) <= MOST_ONS
 
 
 # A role or a road that isn't there leaves no step, register or road to tell of.
@@ -76,6 +83,12 @@ def is_claim(program, value):
 def check_claim(program, claim):
     if not is_claim(program, claim):
         raise NoClaim(f"{claim!r} is no claim of the program")
+
+
+# None stands for each world, or for halts, as the asker tells.
+def check_claim_or_none(program, claim):
+    if claim is not None:
+        check_claim(program, claim)
 
 
 def counted(world, claim):
@@ -105,7 +118,7 @@ def grows(claim):
     if claim[0] in PLAIN_PARTS:
         return True
     if claim[0] == "not":
-        return ons_in(claim) == 0
+        return ons_of(claim) == []
     return all([grows(part) for part in claim[1:]])
 
 

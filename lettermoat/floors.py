@@ -66,8 +66,8 @@ def floors_ahead(program, floor):
 
 
 def floors(program, most):
-    start = start_world(program)
-    return tuple(sorted(found_from(start, lambda floor: floors_ahead(program, floor), most)))
+    starts = (start_world(program),)
+    return tuple(sorted(found_from(starts, lambda floor: floors_ahead(program, floor), most)))
 
 
 def letter_of_choice(step, choice):

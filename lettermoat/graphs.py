@@ -10,13 +10,13 @@ def ahead(program, world):
 
 
 # Each world found is kept with the move that found it and the world ahead of that: so of the ways to it the first
-# of the shortest is kept.
-def found_from(start, ahead_of, most):
-    found = {start: None}
-    row = [start]
+# of the shortest is kept. Where most is None there may be any number.
+def found_from(starts, ahead_of, most):
+    found = dict([(start, None) for start in starts])
+    row = list(found)
     count = 0
     while count < len(row):
-        if len(row) > most:
+        if most is not None and len(row) > most:
             raise TooMany(f"there are more than {most}")
         world = row[count]
         for move, behind in ahead_of(world):
@@ -27,10 +27,14 @@ def found_from(start, ahead_of, most):
     return found
 
 
-def found_worlds(program, most):
+def check_not_wide(program):
     if is_wide(program):
         raise NoWorlds("a program with a wide road has worlds without end")
-    return found_from(start_world(program), lambda world: ahead(program, world), most)
+
+
+def found_worlds(program, most):
+    check_not_wide(program)
+    return found_from((start_world(program),), lambda world: ahead(program, world), most)
 
 
 def way_back(found, world):

@@ -2,7 +2,7 @@
 
 from lettermoat.errors import NoWitness
 from lettermoat.graphs import ahead, found_from, way_back
-from lettermoat.worlds import choices
+from lettermoat.loops import hands_always_able, has_move_of
 
 
 # For each world, by its number among them, the pairs of a move and the number of the world behind, if it is of them.
@@ -72,29 +72,21 @@ def is_bare(program, knot):
     return ways_among(program, knot) == [[]]
 
 
-def hands_always_able(program, knot):
-    able = []
-    for k in range(len(knot[0][0])):
-        if all([choices(program, world, k) != () for world in knot]):
-            able.append(k)
-    return able
-
-
-def has_move_of(row, k):
-    return any([move[0] == "hand" and move[1] == k for move, number in row])
+def leads_by(row, k):
+    return has_move_of([move for move, number in row], k)
 
 
 def helper_of(program, knot):
     ways = ways_among(program, knot)
     for k in hands_always_able(program, knot):
-        if not any([has_move_of(row, k) for row in ways]):
+        if not any([leads_by(row, k) for row in ways]):
             return k
     return None
 
 
 # The nearest world that is looked for, with the way to it.
 def nearest(ways, place, is_sought):
-    found = found_from(place, lambda number: ways[number], len(ways))
+    found = found_from((place,), lambda number: ways[number], len(ways))
     for number in found:
         if is_sought(number):
             return (number, way_back(found, number))
@@ -114,8 +106,8 @@ def fair_loop(program, knot):
         run.extend(step[1])
         left.pop(place)
     for k in hands_always_able(program, knot):
-        step = nearest(ways, place, lambda number: has_move_of(ways[number], k))
-        own = [pair for pair in ways[step[0]] if has_move_of([pair], k)][0]
+        step = nearest(ways, place, lambda number: leads_by(ways[number], k))
+        own = [pair for pair in ways[step[0]] if leads_by([pair], k)][0]
         run.extend(step[1] + (own[0],))
         place = own[1]
     run.extend(nearest(ways, place, lambda number: number == 0)[1])

@@ -1,6 +1,6 @@
 """Moats, which show that a claim that grows never holds on roads of any length, and runs that show the contrary."""
 
-from lettermoat.claims import check_claim, grows, is_so, ons_in
+from lettermoat.claims import check_claim, grows, is_so, ons_of
 from lettermoat.errors import NoClaim, TooMany
 from lettermoat.floors import before, floor_moves, floor_of, floors, words_of
 from lettermoat.floors import letter_of_choice, wide_road_at, wide_roads
@@ -22,16 +22,6 @@ def in_moat(program, moat, world):
         if place == floor:
             return has_one_within(rows, words)
     return None
-
-
-def ons_of(claim):
-    if claim[0] == "on":
-        return [claim]
-    found = []
-    if ons_in(claim) > 0:
-        for part in claim[1:]:
-            found.extend(ons_of(part))
-    return found
 
 
 def some_of(values):

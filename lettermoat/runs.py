@@ -89,16 +89,18 @@ def story(program, run):
     return "\n".join(lines)
 
 
-# The letter that the move sends, with its road, or None.
-def letter_shown(program, world, move):
+# The letter that the move sends on one of these roads, with its road, or None.
+def letter_shown(program, world, move, roads):
     if move[0] == "lose":
         return None
     hand = world[0][move[1]]
     step = step_at(program, hand)
-    return (step[1],) + letter_sent(hand, step) if step[0] in ("send", "tell") else None
+    if step[0] not in ("send", "tell") or step[1] not in roads:
+        return None
+    return (step[1],) + letter_sent(hand, step)
 
 
 def shown(program, run, roads):
     worlds = worlds_of(program, run)
-    triples = [letter_shown(program, world, move) for world, move in zip(worlds, run)]
-    return tuple([triple for triple in triples if triple is not None and triple[0] in roads])
+    triples = [letter_shown(program, world, move, roads) for world, move in zip(worlds, run)]
+    return tuple([triple for triple in triples if triple is not None])

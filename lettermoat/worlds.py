@@ -178,9 +178,13 @@ def can_be_done(program, world, move):
     return move[2] in places_lost(program[0][move[1]], world[1][move[1]])
 
 
-def moved(program, world, move):
+def check_move(program, world, move):
     if not can_be_done(program, world, move):
         raise NoMove(f"{move!r} can't be done there")
+
+
+def moved(program, world, move):
+    check_move(program, world, move)
     if move[0] == "hand":
         return hand_moved(program, world, move[1], move[2])
     return with_load(world, move[1], without(world[1][move[1]], move[2]))

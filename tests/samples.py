@@ -7,6 +7,7 @@ from lettermoat.errors import TooMany
 from lettermoat.graphs import all_worlds
 from lettermoat.programs import is_program, sent_on
 from lettermoat.texts import program_of
+from lettermoat.worlds import moved, moves, start_world, stopped
 
 WAY = ("row", 2, False)
 WIDE = ("row", None, True)
@@ -116,6 +117,16 @@ send 1 no 2
 hand asker
 hand helper""")
 
+# Of TALK: what never holds, what can hold, and what is no claim.
+NEVER = ("at", "asker", 2, 1)
+SOME_TIME = ("at", "asker", 3, 1)
+
+NO_CLAIMS = (
+    None, (), "at(asker 0 1)", ("at", "asker", 4, 1), ("at", "nobody", 0, 1), ("has", "asker", 1, 0, 1),
+    ("on", 3, "yes", 1), ("and",), ("not", SOME_TIME, SOME_TIME), ("or", SOME_TIME, None),
+    ("not", ("not", ("not", ("not", SOME_TIME)))), ("and",) + (("on", 0, "ask", 1),) * 3,
+)
+
 
 def random_step(rng, roads, many, count, names):
     words = ["if", "set", "add"] * (many > 0) + ["send", "wait", "wait"] * (roads > 0) + ["pick", "begin", "stop"]
@@ -168,6 +179,22 @@ def small_programs(seed, count, most):
         except TooMany:
             pass
     return found
+
+
+def random_run(rng, program, most):
+    run = []
+    world = start_world(program)
+    for k in range(most):
+        found = moves(program, world)
+        if not found:
+            break
+        run.append(rng.choice(found))
+        world = moved(program, world, run[-1])
+    return tuple(run)
+
+
+def is_halt(program, world):
+    return not moves(program, world) and any(not stopped(program, hand) for hand in world[0])
 
 
 def random_plain(rng, program):

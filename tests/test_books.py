@@ -9,9 +9,10 @@ from lettermoat.claims import holds, is_claim
 from lettermoat.errors import NoClaim, NoWorlds, TooMany
 from lettermoat.graphs import all_worlds, way_to
 from lettermoat.runs import worlds_of
-from lettermoat.worlds import moves, start_world, stopped
+from lettermoat.worlds import start_world
 
-from tests.samples import TALK, WIDE, random_claim, small_programs, tuples_all_down, with_steps
+from tests.samples import NEVER, NO_CLAIMS, SOME_TIME, TALK, WIDE, is_halt, random_claim, small_programs
+from tests.samples import tuples_all_down, with_steps
 
 # A hand for each road, and on each a letter that the other one waits for: both wait for ever.
 CROSSED = (
@@ -27,19 +28,6 @@ MAYBE = (
     (("one", 0, (("wait", 0, ("a", None, 1)),)), ("two", 0, (("pick", 1, 2), ("send", 0, "a", 0)))),
     ("one", "two"),
 )
-
-NEVER = ("at", "asker", 2, 1)
-SOME_TIME = ("at", "asker", 3, 1)
-
-NO_CLAIMS = (
-    None, (), "at(asker 0 1)", ("at", "asker", 4, 1), ("at", "nobody", 0, 1), ("has", "asker", 1, 0, 1),
-    ("on", 3, "yes", 1), ("and",), ("not", SOME_TIME, SOME_TIME), ("or", SOME_TIME, None),
-    ("not", ("not", ("not", ("not", SOME_TIME)))), ("and",) + (("on", 0, "ask", 1),) * 3,
-)
-
-
-def is_halt(program, world):
-    return not moves(program, world) and any(not stopped(program, hand) for hand in world[0])
 
 
 def first_way(program, is_such):

@@ -7,9 +7,9 @@ import unittest
 from lettermoat.errors import NoMove, NoText
 from lettermoat.runs import end_of, run_of, run_text, shown, story, worlds_of
 from lettermoat.texts import program_of
-from lettermoat.worlds import moved, moves, start_world
+from lettermoat.worlds import moved, start_world
 
-from tests.samples import TALK, asker, random_program, tuples_all_down, with_steps
+from tests.samples import TALK, asker, random_program, random_run, tuples_all_down, with_steps
 
 # The asker asks, the helper answers with no, the asker asks again, and the second answer is lost.
 RUN = (
@@ -32,18 +32,6 @@ role other 1
 wait 1 ask:0:1
 wait 0 note:.:2
 hand main""")
-
-
-def random_run(rng, program, most):
-    run = []
-    world = start_world(program)
-    for k in range(most):
-        found = moves(program, world)
-        if not found:
-            break
-        run.append(rng.choice(found))
-        world = moved(program, world, run[-1])
-    return tuple(run)
 
 
 class Worlds(unittest.TestCase):
