@@ -79,10 +79,11 @@ def is_claim(program, value):
     return is_claim_of(value, lambda part: is_plain_of(program, part))
 
 
-# Claims are looked at once, ahead of all the worlds of which they are asked.
+# Claims are looked at once, ahead of all the worlds of which they are asked. What is none may be of any kind: it is
+# not shown, as showing it may fail.
 def check_claim(program, claim):
     if not is_claim(program, claim):
-        raise NoClaim(f"{claim!r} is no claim of the program")
+        raise NoClaim("what was told is no claim of the program")
 
 
 # None stands for each world, or for halts, as the asker tells.

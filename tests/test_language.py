@@ -271,5 +271,70 @@ class Walks(unittest.TestCase):
                 self.assertNotIsInstance(node, (ast.SetComp, ast.DictComp, ast.GeneratorExp), name)
 
 
+class Classes(unittest.TestCase):
+
+    def classes(self):
+        for name, tree in trees().items():
+            for node in tree.body:
+                if isinstance(node, ast.ClassDef):
+                    yield name, node
+
+    def methods(self):
+        return [part.name for name, node in self.classes() for part in node.body if isinstance(part, ast.FunctionDef)]
+
+    def values(self):
+        found = set()
+        for name, tree in trees().items():
+            for node in ast.walk(tree):
+                if isinstance(node, ast.Attribute) and not isinstance(node.ctx, ast.Load):
+                    self.assertEqual(node.value.id, "self", name)
+                    found.add(node.attr)
+        return found
+
+    def test_no_name_is_a_method_and_a_value(self):
+        self.assertEqual(set(self.methods()) & self.values(), set())
+
+    def test_names_are_free(self):
+        own = {part for kind in (str, int, list, dict, set, bytes, tuple) for part in dir(kind)}
+        for name in set(self.methods()) - {"__init__"} | self.values():
+            self.assertNotIn(name, own)
+            self.assertNotIn(name, NAMES_OUT | {"args"})
+
+    def test_no_method_stands_twice(self):
+        for name, node in self.classes():
+            methods = [part.name for part in node.body if isinstance(part, ast.FunctionDef)]
+            self.assertEqual(len(methods), len(set(methods)), name)
+
+    def test_errors_are_named_and_made_on_the_spot(self):
+        errors = [node.name for name, node in self.classes() if name == "errors"]
+        for name, tree in trees().items():
+            for node in ast.walk(tree):
+                if isinstance(node, ast.Raise):
+                    self.assertIn(called(node.exc), errors, name)
+                if isinstance(node, ast.ExceptHandler):
+                    self.assertIn(node.type.id, errors, name)
+
+
+class Tops(unittest.TestCase):
+
+    def test_lists_and_dicts_of_a_files_top_are_only_read(self):
+        for name, tree in trees().items():
+            kept = [node.targets[0].id for node in tree.body if isinstance(node, ast.Assign)
+                    and isinstance(node.value, (ast.List, ast.Dict))]
+            parents = with_parents(tree)
+            for node in ast.walk(tree):
+                if isinstance(node, ast.Name) and node.id in kept and isinstance(node.ctx, ast.Load):
+                    around = parents[node]
+                    read = isinstance(around, (ast.Compare, ast.For, ast.comprehension))
+                    read = read or isinstance(around, ast.Subscript) and isinstance(around.ctx, ast.Load)
+                    read = read or isinstance(around, ast.Attribute) and around.attr == "get"
+                    self.assertTrue(read or called(around) in ("list", "dict", "len"), f"{name}:{node.lineno}")
+
+    def test_two_lambdas_do_not_stand_on_one_line(self):
+        for name, tree in trees().items():
+            lines = [node.lineno for node in ast.walk(tree) if isinstance(node, ast.Lambda)]
+            self.assertEqual(len(lines), len(set(lines)), name)
+
+
 if __name__ == "__main__":
     unittest.main()
